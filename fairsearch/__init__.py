@@ -1,0 +1,1 @@
+"""Fairsearch: questions to relations, answered round by round."""

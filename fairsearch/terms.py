@@ -1,0 +1,98 @@
+"""Words and terms: what they are, their unknowns, and terms renamed."""
+
+WORD_LETTERS = 8
+
+
+def is_whole(thing):
+    """Whether it is a whole number; True and False are ints of Python's, but no numbers here."""
+    return isinstance(thing, int) and not isinstance(thing, bool)
+
+
+def is_word(thing):
+    if not isinstance(thing, str):
+        return False
+    return 1 <= len(thing) <= WORD_LETTERS and all(["a" <= sign <= "z" for sign in thing])
+
+
+def is_unknown(thing):
+    if not isinstance(thing, tuple) or len(thing) != 2:
+        return False
+    return thing[0] == "?" and is_whole(thing[1]) and thing[1] >= 0
+
+
+def is_pair(thing):
+    """Whether it has the form of a pair; what its head and its rest are isn't asked."""
+    return isinstance(thing, tuple) and len(thing) == 2 and thing[0] != "?"
+
+
+def is_leaf(thing):
+    """Whether it is a term that is no pair."""
+    return thing == () or is_whole(thing) or is_word(thing) or is_unknown(thing)
+
+
+def is_term(thing):
+    # A list of what is still to be looked at: the depth of a thing never becomes that of calls.
+    waiting = [thing]
+    while waiting:
+        part = waiting.pop()
+        if is_pair(part):
+            waiting.extend(part)
+        elif not is_leaf(part):
+            return False
+    return True
+
+
+def is_ground(term):
+    return unknowns_in(term) == ()
+
+
+def unknowns_in(term):
+    """The numbers of its unknowns as they come, each once."""
+    return unknowns_of((term,))
+
+
+def unknowns_of(terms):
+    """The numbers of the unknowns of several terms as they come, each once."""
+    # A dict keeps the order in which its keys came first.
+    found = {}
+    waiting = list(reversed(terms))
+    while waiting:
+        part = waiting.pop()
+        if is_unknown(part):
+            found[part[1]] = True
+        elif is_pair(part):
+            waiting.append(part[1])
+            waiting.append(part[0])
+    return tuple(found)
+
+
+def renamed(terms):
+    """The terms with 0, 1, .. in the places of their unknowns' numbers, as these come."""
+    numbers = {old: new for new, old in enumerate(unknowns_of(terms))}
+    return tuple([with_numbers(term, numbers) for term in terms])
+
+
+def with_numbers(term, numbers):
+    """The term with the new numbers, told by the old ones, of its unknowns."""
+    heads, end = parted(term)
+    if is_unknown(end):
+        end = ("?", numbers[end[1]])
+    return joined([with_numbers(head, numbers) for head in heads], end)
+
+
+def parted(term):
+    """The heads of a term and of its rests, a list, and the last rest, which is no pair."""
+    heads = []
+    end = term
+    while is_pair(end):
+        heads.append(end[0])
+        end = end[1]
+    return heads, end
+
+
+def joined(heads, end):
+    """The term that is parted into these."""
+    term = end
+    for head in reversed(heads):
+        term = (head, term)
+    return term
