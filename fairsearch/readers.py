@@ -27,16 +27,12 @@ def are_figures(text):
 
 
 def atom_of(piece):
-    """The number, the word or the unknown that is so written, or None."""
+    """The number or the word that is so written, or None."""
     if is_word(piece):
         return piece
     if are_figures(piece):
         return int(piece)
-    if not are_figures(piece[1:]):
-        return None
-    if piece[0] == "?":
-        return ("?", int(piece[1:]))
-    if piece[0] == "-" and piece != "-0":
+    if piece[:1] == "-" and piece != "-0" and are_figures(piece[1:]):
         return -int(piece[1:])
     return None
 
@@ -45,6 +41,8 @@ class Reader:
     """Its methods refuse, with the whole text, what isn't written as it should be."""
 
     def __init__(self, text):
+        if not isinstance(text, str):
+            raise NoText(text)
         self.text = text
         self.pieces = pieces_of(text)
         self.at = 0
@@ -72,6 +70,19 @@ class Reader:
             raise NoText(self.text)
         return atom
 
+    def unknown_by(self, mark):
+        """The unknown that is written by this behind a `?`, or None."""
+        return ("?", int(mark)) if are_figures(mark) else None
+
+    def next_single(self):
+        """An unknown or an atom."""
+        if self.peek()[:1] != "?":
+            return self.next_atom()
+        unknown = self.unknown_by(self.next_piece()[1:])
+        if unknown is None:
+            raise NoText(self.text)
+        return unknown
+
     def next_term(self):
         # A list of heads for each bracket that isn't closed yet, and no call for each:
         # a text may have more brackets than there may be calls within one another.
@@ -98,12 +109,12 @@ class Reader:
                 self.expect(")")
                 return ()
             lists.append([])
-        return self.next_atom()
+        return self.next_single()
 
     def next_end(self):
-        """The end of a pair behind a point: an atom alone, as all else is written without a point."""
+        """The end of a pair behind a point: what is written without brackets, as all else goes without a point."""
         self.expect(".")
         self.expect(" ")
-        end = self.next_atom()
+        end = self.next_single()
         self.expect(")")
         return end

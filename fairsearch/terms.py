@@ -14,10 +14,17 @@ def is_word(thing):
     return 1 <= len(thing) <= WORD_LETTERS and all(["a" <= sign <= "z" for sign in thing])
 
 
+def is_atom(thing):
+    return is_whole(thing) or is_word(thing)
+
+
+def is_marked(thing):
+    """Whether it has the form of an unknown; what stands behind the mark isn't asked."""
+    return isinstance(thing, tuple) and len(thing) == 2 and thing[0] == "?"
+
+
 def is_unknown(thing):
-    if not isinstance(thing, tuple) or len(thing) != 2:
-        return False
-    return thing[0] == "?" and is_whole(thing[1]) and thing[1] >= 0
+    return is_marked(thing) and is_whole(thing[1]) and thing[1] >= 0
 
 
 def is_pair(thing):
@@ -27,23 +34,30 @@ def is_pair(thing):
 
 def is_leaf(thing):
     """Whether it is a term that is no pair."""
-    return thing == () or is_whole(thing) or is_word(thing) or is_unknown(thing)
+    return thing == () or is_atom(thing) or is_unknown(thing)
 
 
 def is_term(thing):
-    # A list of what is still to be looked at: the depth of a thing never becomes that of calls.
-    waiting = [thing]
-    while waiting:
-        part = waiting.pop()
-        if is_pair(part):
-            waiting.extend(part)
-        elif not is_leaf(part):
-            return False
-    return True
+    return all([is_leaf(leaf) for leaf in leaves_of((thing,))])
 
 
 def is_ground(term):
     return unknowns_in(term) == ()
+
+
+def leaves_of(things):
+    """What is no pair in them, a list, as it comes, heads ahead of rests."""
+    # A list of what is still to be looked at: the depth of a thing never becomes that of calls.
+    leaves = []
+    waiting = list(reversed(things))
+    while waiting:
+        part = waiting.pop()
+        if is_pair(part):
+            waiting.append(part[1])
+            waiting.append(part[0])
+        else:
+            leaves.append(part)
+    return leaves
 
 
 def unknowns_in(term):
@@ -54,30 +68,21 @@ def unknowns_in(term):
 def unknowns_of(terms):
     """The numbers of the unknowns of several terms as they come, each once."""
     # A dict keeps the order in which its keys came first.
-    found = {}
-    waiting = list(reversed(terms))
-    while waiting:
-        part = waiting.pop()
-        if is_unknown(part):
-            found[part[1]] = True
-        elif is_pair(part):
-            waiting.append(part[1])
-            waiting.append(part[0])
-    return tuple(found)
+    return tuple({leaf[1]: True for leaf in leaves_of(terms) if is_unknown(leaf)})
 
 
 def renamed(terms):
     """The terms with 0, 1, .. in the places of their unknowns' numbers, as these come."""
-    numbers = {old: new for new, old in enumerate(unknowns_of(terms))}
-    return tuple([with_numbers(term, numbers) for term in terms])
+    table = {old: ("?", new) for new, old in enumerate(unknowns_of(terms))}
+    return tuple([with_terms(term, table) for term in terms])
 
 
-def with_numbers(term, numbers):
-    """The term with the new numbers, told by the old ones, of its unknowns."""
+def with_terms(term, table):
+    """The term with the table's terms in the places of those unknowns that have one there, all at once."""
     heads, end = parted(term)
-    if is_unknown(end):
-        end = ("?", numbers[end[1]])
-    return joined([with_numbers(head, numbers) for head in heads], end)
+    if is_marked(end):
+        end = table.get(end[1], end)
+    return joined([with_terms(head, table) for head in heads], end)
 
 
 def parted(term):

@@ -1,12 +1,11 @@
 """Terms and fillings as texts, and the terms that texts write."""
 
-from fairsearch.errors import NoText
 from fairsearch.readers import Reader
-from fairsearch.terms import is_pair, is_unknown, parted
+from fairsearch.terms import is_marked, is_pair, parted
 
 
 def show_term(term):
-    if is_unknown(term):
+    if is_marked(term):
         return f"?{term[1]}"
     if is_pair(term):
         return show_pair(term)
@@ -23,8 +22,6 @@ def show_pair(pair):
 
 def read_term(text):
     """The term that show_term writes so; NoText where it writes none so."""
-    if not isinstance(text, str):
-        raise NoText(text)
     reader = Reader(text)
     term = reader.next_term()
     reader.expect_end()
