@@ -244,6 +244,10 @@ class Interface(unittest.TestCase):
         "never": "never",
         "neverchecks": "never_holds",
         "stores": "Store",
+        "goals": "is_program is_goal",
+        "goaltexts": "show_goal read_goal show_relation read_relation show_program read_program",
+        "traces": "trace_holds path_of",
+        "showing": "covers covered show_answer",
     }
 
     METHODS = {
