@@ -62,7 +62,8 @@ class TraceChecker:
             return None
         if not all([is_term(term) and is_ground(term) for term in trace[0]]):
             return None
-        return [(goal[2], {**known, **self.known_values(names, trace[0])}, trace[1])]
+        own = self.known_values(names, trace[0])
+        return [(goal[2], {**known, **own}, trace[1])]
 
     def within_call(self, goal, known, trace):
         if not is_tuple_of(trace, 1):
