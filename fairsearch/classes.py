@@ -1,20 +1,19 @@
-"""What has to be the same so that two terms are: their parts, put together in classes."""
+"""What has to be the same so that terms are: their parts, put together in classes."""
 
 from fairsearch.nodes import Nodes
 from fairsearch.terms import is_unknown, unknowns_in
 
 
 class Classes:
-    """The classes of the parts of two terms, by their nodes."""
+    """The classes of nodes that have to be the same; at first each is by itself."""
 
-    def __init__(self, one, other):
-        self.nodes = Nodes()
+    def __init__(self, nodes):
+        self.nodes = nodes
         self.above = {}
         self.bodies = {}
         # Which nodes were put together, in order, and why: a paper is written along these.
         self.links = []
         self.clash = ()
-        self.make_same(self.nodes.node_of(one), self.nodes.node_of(other))
 
     def make_same(self, one, other):
         """Puts the two together and all that then has to be, till a clash, if there is one."""
@@ -78,6 +77,13 @@ class Classes:
         for number, top in tops:
             least.setdefault(top, number)
         return {number: least[top] for number, top in tops if self.body_of(top) is None}
+
+
+def classes_of(one, other):
+    """The classes of the parts of two terms that have to be the same."""
+    classes = Classes(Nodes())
+    classes.make_same(classes.nodes.node_of(one), classes.nodes.node_of(other))
+    return classes
 
 
 def ordered(bodies):

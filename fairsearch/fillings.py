@@ -1,6 +1,6 @@
 """Fillings: terms for unknowns, and the one by which two terms become alike."""
 
-from fairsearch.classes import Classes, ordered
+from fairsearch.classes import classes_of, ordered
 from fairsearch.terms import is_term, is_unknown, is_whole, unknowns_of, with_terms
 
 
@@ -36,7 +36,7 @@ def alike(one, other, filling=()):
 
 def least_filling(one, other):
     """The rows, in no order, by which the two are the same, and nothing else is; None where nothing does so."""
-    classes = Classes(one, other)
+    classes = classes_of(one, other)
     if classes.clash != ():
         return None
     nodes = classes.body_by_number()

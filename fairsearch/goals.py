@@ -18,6 +18,11 @@ def is_goal(program, names, thing):
     return is_any_goal(thing) and is_right(thing, names, program)
 
 
+def is_question(program, names, goal):
+    """Whether the three, of anything, are a question."""
+    return is_program(program) and are_names(names) and is_goal(program, names, goal)
+
+
 def is_relation(thing):
     """Whether it is one, whatever it calls and whatever unknowns it has."""
     if not isinstance(thing, tuple) or len(thing) != 3:
@@ -78,6 +83,17 @@ def goals_in(goal):
     return goal[2:] if goal[0] == "fresh" else ()
 
 
+def all_goals(goal):
+    """The goal and all goals in it, a list, in the order in which they are written."""
+    found = []
+    waiting = [goal]
+    while waiting:
+        part = waiting.pop()
+        found.append(part)
+        waiting.extend(goals_in(part)[::-1])
+    return found
+
+
 def terms_in(goal):
     """The open terms right in it."""
     if goal[0] == "call":
@@ -85,6 +101,11 @@ def terms_in(goal):
     if goal[0] == "absent":
         return goal[2:]
     return goal[1:] if goal[0] in ("same", "unlike", "number", "word") else ()
+
+
+def relations_by_name(program):
+    """By each relation's name its names and its goal."""
+    return {name: (names, goal) for name, names, goal in program}
 
 
 def is_right(goal, names, program):

@@ -1,11 +1,11 @@
 """Papers that nothing makes two terms alike."""
 
-from fairsearch.classes import Classes, ordered
+from fairsearch.classes import classes_of, ordered
 
 
 def never(one, other):
     """A paper that nothing makes the two alike, or None where something does."""
-    classes = Classes(one, other)
+    classes = classes_of(one, other)
     if classes.clash != ():
         writer = PaperWriter(classes.links)
         first, second = classes.clash

@@ -4,13 +4,14 @@ from fairsearch.terms import is_marked, parted
 
 
 class Nodes:
-    """A node is the number of a term."""
+    """A node is the number of a term. What was added stays, and says nothing of what unknowns are."""
 
     def __init__(self):
         # Whole terms are no keys, as these may be deep: a pair goes by the nodes of its head and its rest.
         self.known = {}
         self.built = []
         self.halves = []
+        self.sizes = []
 
     def node_of(self, term):
         return self.node_with(term, {})
@@ -40,6 +41,7 @@ class Nodes:
     def new_node(self, term, halves):
         self.built.append(term)
         self.halves.append(halves)
+        self.sizes.append(1 + sum([self.sizes[half] for half in halves]))
         return len(self.built) - 1
 
     def is_pair_node(self, node):

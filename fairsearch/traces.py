@@ -1,5 +1,6 @@
 """Traces: why a goal holds of values; and the paths along which they go."""
 
+from fairsearch.goals import relations_by_name
 from fairsearch.nodes import Nodes
 from fairsearch.terms import is_ground, is_term, is_whole, is_word
 
@@ -30,7 +31,7 @@ class TraceChecker:
     """Reads traces step by step. Values go by nodes, as through calls they may become great."""
 
     def __init__(self, program):
-        self.relations = {name: (names, goal) for name, names, goal in program}
+        self.relations = relations_by_name(program)
         self.nodes = Nodes()
 
     def known_values(self, names, values):
@@ -88,7 +89,7 @@ class TraceChecker:
 
 def path_of(program, goal, trace):
     """For each either the number of its goal, for each call 0, as they come."""
-    relations = {name: inner for name, names, inner in program}
+    relations = relations_by_name(program)
     path = []
     waiting = [(goal, trace)]
     while waiting:
@@ -103,5 +104,5 @@ def path_of(program, goal, trace):
             waiting.append((part[2], inner[1]))
         elif word == "call":
             path.append(0)
-            waiting.append((relations[part[1]], inner[0]))
+            waiting.append((relations[part[1]][1], inner[0]))
     return tuple(path)

@@ -91,3 +91,75 @@ class GoalMaker(Maker):
             return (word, new, self.goal(tuple(sorted({*names, *new})), deep - 1))
         relation = self.rng.choice(self.program)
         return (word, relation[0], tuple(self.open_term(names) for _ in relation[1]))
+
+
+# Relations that a Search is asked about: joining and parting lists, counting by lists, links with rings, no end.
+COUNT = ("count", ("x",), ("either", (
+    ("same", X, ()),
+    ("fresh", ("d",), ("both", (("same", X, ("one", D)), ("call", "count", (D,))))),
+)))
+
+LINK = ("link", ("x", "y"), ("either", (
+    ("same", (X, Y), ("a", "b")), ("same", (X, Y), ("b", "c")), ("same", (X, Y), ("c", "a")), ("same", (X, Y), ("c", "d")),
+)))
+
+LOOP = ("loop", ("x",), ("call", "loop", (X,)))
+
+PLUS = ("plus", ("x", "y", "z"), ("either", (
+    ("both", (("same", X, ()), ("same", Y, Z))),
+    ("fresh", ("a", "d"), ("both", (
+        ("same", X, ("one", A)), ("same", Z, ("one", D)), ("call", "plus", (A, Y, D)),
+    ))),
+)))
+
+UPWARD = ("upward", ("x",), ("fresh", ("d",), ("both", (("same", X, ("one", D)), ("call", "upward", (D,))))))
+
+WALK = ("walk", ("x", "y"), ("either", (
+    ("call", "link", (X, Y)),
+    ("fresh", ("z",), ("both", (("call", "link", (X, Z)), ("call", "walk", (Z, Y))))),
+)))
+
+WORLD = (APPEND, COUNT, LINK, LOOP, MEMBER, PLUS, UPWARD, WALK)
+
+# Names and a goal, each by WORLD; those that never end and those that do.
+ENDLESS = [
+    (("x",), ("call", "count", (X,))),
+    (("x",), ("call", "loop", (X,))),
+    (("x",), ("call", "upward", (X,))),
+    (("x",), ("either", (("call", "upward", (X,)), ("same", X, 1), ("call", "count", (X,)), ("call", "loop", (X,))))),
+    (("x", "y"), ("call", "append", (X, listed(1), Y))),
+    (("x", "y"), ("call", "walk", (X, Y))),
+    (("x",), ("call", "walk", ("a", X))),
+    (("x", "y"), ("call", "member", (X, Y))),
+    (("x", "y"), ("both", (("call", "member", (X, Y)), ("call", "member", (1, Y)), ("word", X)))),
+    (("x", "y"), ("fresh", ("z",), ("both", (("call", "count", (Z,)), ("call", "append", (X, Y, Z)))))),
+    (("x", "y", "z"), ("call", "plus", (X, Y, Z))),
+]
+
+ENDING = [
+    ((), ("both", ())),
+    ((), ("either", ())),
+    (("x",), ("both", ())),
+    (("x",), ("same", X, 1)),
+    (("x",), ("both", (("same", X, 1), ("same", X, 2)))),
+    (("x",), ("either", (("same", X, 1), ("either", ()), ("same", X, (1, X)), ("both", ())))),
+    (("x", "y"), ("call", "append", (X, Y, listed(1, "a", 2)))),
+    (("x",), ("call", "append", (listed(1, 2), listed(3), X))),
+    (("x", "y"), ("call", "link", (X, Y))),
+    (("x", "y"), ("both", (("call", "link", (X, Y)), ("call", "link", (Y, X))))),
+    (("x", "y"), ("fresh", ("z",), ("both", (("call", "link", (X, Z)), ("call", "link", (Z, Y)))))),
+    (("x",), ("call", "member", (X, listed(1, 2, "a", 2)))),
+    (("x", "y"), ("call", "member", (X, listed(1, Y, "a")))),
+    (("x", "y"), ("both", (("call", "plus", (X, Y, listed("one", "one", "one"))), ("unlike", X, Y)))),
+    (("x",), ("call", "plus", (listed("one"), listed("one"), X))),
+    (("x", "y", "z"), ("both", (("unlike", X, Y), ("unlike", (X, Z), (Y, 1)), ("number", Y), ("absent", "a", (X, Z))))),
+    (("x", "y"), ("either", (("both", (("number", X), ("word", X))), ("both", (("number", X), ("unlike", X, "a")))))),
+]
+
+
+def random_question(seed):
+    """A program of three relations and a goal, by chance."""
+    names = {"p": ("x", "y"), "q": ("x",), "r": ()}
+    stub = tuple((name, names[name], ("both", ())) for name in sorted(names))
+    program = tuple((name, names[name], GoalMaker(f"{seed}{name}", stub).goal(names[name], 4)) for name in sorted(names))
+    return program, ("x", "y"), GoalMaker(seed, program).goal(("x", "y"), 4)

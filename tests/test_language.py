@@ -248,10 +248,15 @@ class Interface(unittest.TestCase):
         "goaltexts": "show_goal read_goal show_relation read_relation show_program read_program",
         "traces": "trace_holds path_of",
         "showing": "covers covered show_answer",
+        "searches": "Search",
+        "tracing": "trace_along",
+        "ends": "end_paper",
+        "endchecks": "end_holds",
     }
 
     METHODS = {
         "Store": "same unlike number word absent world filling kinds absents rows",
+        "Search": "take turns rounds ended",
     }
 
     def test_each_name_is_defined_in_its_file(self):
