@@ -42,6 +42,8 @@ class Branch:
 
     def run(self):
         """Does goals till its turn ends; tells "answer", "over", or "parted", and has its choices then."""
+        self.choices = []
+        self.asked = ()
         self.ending = ""
         while self.ending == "" and self.goals != ():
             goal, known, self.goals = self.goals
@@ -90,8 +92,6 @@ class Branch:
         """Becomes that part of itself."""
         goal, known = self.choices[at]
         self.path = (*self.path, at)
-        self.choices = []
-        self.asked = ()
         self.put_ahead([goal], known)
 
     def all_parts(self):

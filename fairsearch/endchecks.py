@@ -1,7 +1,7 @@
 """Reads papers of the end, whoever wrote them, along their own paths, without a Search."""
 
 from fairsearch.branches import first_branch
-from fairsearch.terms import is_whole
+from fairsearch.terms import is_tuple_of, is_whole
 
 
 def end_holds(program, names, goal, thing):
@@ -32,7 +32,7 @@ def is_end_form(thing):
 
 
 def is_end_row(thing):
-    if not isinstance(thing, tuple) or len(thing) != 2:
+    if not is_tuple_of(thing, 2):
         return False
     return is_path(thing[0]) and isinstance(thing[1], str)
 

@@ -70,7 +70,10 @@ class Facts(Classes):
         return True
 
     def put_together(self, top, under):
+        body = self.body_of(under)
         waiting = super().put_together(top, under)
+        if body is not None and self.nodes.grounds[body]:
+            self.bodies[top] = body
         self.changed[top] = True
         self.changed[under] = True
         if under in self.sorts and self.sorts.setdefault(top, self.sorts[under]) != self.sorts[under]:
@@ -104,11 +107,16 @@ class Facts(Classes):
                 waiting.pop()
                 continue
             done[top] = False
-            below = self.tops_below(top)
+            below = [] if self.is_ground_class(top) else self.tops_below(top)
             if any([part in done and not done[part] for part in below]):
                 return True
             waiting.extend([part for part in below if part not in done])
         return False
+
+    def is_ground_class(self, top):
+        """Whether a ground term is known to be in it: as nothing clashed, there is no ring below it then."""
+        body = self.body_of(top)
+        return body is not None and self.nodes.grounds[body]
 
     def tops_below(self, top):
         body = self.body_of(top)

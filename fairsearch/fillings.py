@@ -1,7 +1,7 @@
 """Fillings: terms for unknowns, and the one by which two terms become alike."""
 
 from fairsearch.classes import classes_of, ordered
-from fairsearch.terms import is_term, is_unknown, is_whole, unknowns_of, with_terms
+from fairsearch.terms import is_term, is_tuple_of, is_unknown, is_whole, unknowns_of, with_terms
 
 
 def is_filling(thing):
@@ -15,7 +15,7 @@ def is_filling(thing):
 
 
 def is_row(thing):
-    if not isinstance(thing, tuple) or len(thing) != 2:
+    if not is_tuple_of(thing, 2):
         return False
     number, term = thing
     if not is_whole(number) or number < 0 or not is_term(term):

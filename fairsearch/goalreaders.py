@@ -42,16 +42,14 @@ class GoalReader(Reader):
             raise NoText(self.text)
         return int(figures)
 
-    def next_names(self):
-        """Names, with their number ahead, unlike."""
+    def next_words(self):
+        """Names, with their number ahead, perhaps alike."""
         many = self.next_count()
-        names = []
-        while len(names) < many:
+        words = []
+        while len(words) < many:
             self.expect(" ")
-            names.append(self.next_word())
-        if not are_names(tuple(names)):
-            raise NoText(self.text)
-        return tuple(names)
+            words.append(self.next_word())
+        return tuple(words)
 
     def next_terms(self, many):
         terms = []
@@ -89,8 +87,8 @@ class GoalReader(Reader):
         raise NoText(self.text)
 
     def next_fresh(self):
-        names = self.next_names()
-        if names == ():
+        names = self.next_words()
+        if names == () or not are_names(names):
             raise NoText(self.text)
         return OpenGoal(("fresh", names), 1)
 
@@ -100,9 +98,10 @@ class GoalReader(Reader):
         return OpenGoal(("call", name, self.next_terms(self.next_count())), 0)
 
     def next_relation(self):
+        """A relation, but that its names may be alike."""
         name = self.next_word()
         self.expect(" ")
-        names = self.next_names()
+        names = self.next_words()
         self.expect(" ")
         self.expect("=")
         self.expect(" ")

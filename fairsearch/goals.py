@@ -1,6 +1,6 @@
 """Goals, relations and programs: what they are, and when they are right."""
 
-from fairsearch.terms import is_atom, is_marked, is_word, leaves_of
+from fairsearch.terms import is_atom, is_marked, is_tuple_of, is_word, leaves_of
 
 
 def is_program(thing):
@@ -25,7 +25,7 @@ def is_question(program, names, goal):
 
 def is_relation(thing):
     """Whether it is one, whatever it calls and whatever unknowns it has."""
-    if not isinstance(thing, tuple) or len(thing) != 3:
+    if not is_tuple_of(thing, 3):
         return False
     return is_word(thing[0]) and are_names(thing[1]) and is_any_goal(thing[2])
 

@@ -2,7 +2,7 @@
 
 from fairsearch.errors import NoText
 from fairsearch.goalreaders import GoalReader
-from fairsearch.goals import is_program
+from fairsearch.goals import are_names, is_program
 from fairsearch.termtexts import show_term
 
 
@@ -41,10 +41,18 @@ def show_relation(relation):
 
 def read_relation(text):
     """The relation that show_relation writes so, whatever it calls and whatever unknowns it has; else NoText."""
-    reader = GoalReader(text)
-    relation = reader.next_relation()
-    reader.expect_end()
+    relation = read_named(text)
+    if not are_names(relation[1]):
+        raise NoText(text)
     return relation
+
+
+def read_named(text):
+    """A name, names, perhaps alike, and a goal, written as a relation is; else NoText."""
+    reader = GoalReader(text)
+    named = reader.next_relation()
+    reader.expect_end()
+    return named
 
 
 def show_program(program):

@@ -1,6 +1,6 @@
 """Reads papers that nothing makes two terms alike, whoever wrote them."""
 
-from fairsearch.terms import is_pair, is_unknown, is_whole, unknowns_in
+from fairsearch.terms import is_pair, is_tuple_of, is_unknown, is_whole, unknowns_in
 
 
 def never_holds(one, other, thing):
@@ -57,7 +57,7 @@ def is_clash(equation):
 
 
 def is_ring(step, shown):
-    if not isinstance(step, tuple) or len(step) != 2 or step[0] != "ring":
+    if not is_tuple_of(step, 2) or step[0] != "ring":
         return False
     numbers = step[1]
     if not isinstance(numbers, tuple) or numbers == () or not are_earlier(numbers, shown):

@@ -12,6 +12,8 @@ class Nodes:
         self.built = []
         self.halves = []
         self.sizes = []
+        self.depths = []
+        self.grounds = []
 
     def node_of(self, term):
         return self.node_with(term, {})
@@ -42,6 +44,8 @@ class Nodes:
         self.built.append(term)
         self.halves.append(halves)
         self.sizes.append(1 + sum([self.sizes[half] for half in halves]))
+        self.depths.append(1 + max([self.depths[half] for half in halves], default=0))
+        self.grounds.append(not is_marked(term) and all([self.grounds[half] for half in halves]))
         return len(self.built) - 1
 
     def is_pair_node(self, node):

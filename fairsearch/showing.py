@@ -1,9 +1,22 @@
 """Answers as they are shown: which values they cover, and how they are written."""
 
+from fairsearch.fillings import is_filling
 from fairsearch.limits import limit_lines, sides_of
 from fairsearch.stores import Store
-from fairsearch.terms import joined
+from fairsearch.terms import is_atom, is_term, is_tuple_of, is_whole, joined
 from fairsearch.termtexts import show_term
+
+
+def is_shown(thing):
+    """Whether it has the form of what is shown: terms, rows, kinds and absents."""
+    if not is_tuple_of(thing, 4) or not all([isinstance(part, tuple) for part in thing]):
+        return False
+    terms, rows, kinds, absents = thing
+    if not all([is_term(term) for term in terms]) or not all([is_filling(row) for row in rows]):
+        return False
+    if not all([is_tuple_of(row, 2) and is_whole(row[0]) for row in [*kinds, *absents]]):
+        return False
+    return all([row[1] in ("number", "word") for row in kinds]) and all([is_atom(row[1]) for row in absents])
 
 
 def covers(shown, values):

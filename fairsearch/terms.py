@@ -8,6 +8,11 @@ def is_whole(thing):
     return isinstance(thing, int) and not isinstance(thing, bool)
 
 
+def is_tuple_of(thing, many):
+    """Whether it is a tuple of so many things."""
+    return isinstance(thing, tuple) and len(thing) == many
+
+
 def is_word(thing):
     if not isinstance(thing, str):
         return False
@@ -20,7 +25,7 @@ def is_atom(thing):
 
 def is_marked(thing):
     """Whether it has the form of an unknown; what stands behind the mark isn't asked."""
-    return isinstance(thing, tuple) and len(thing) == 2 and thing[0] == "?"
+    return is_tuple_of(thing, 2) and thing[0] == "?"
 
 
 def is_unknown(thing):
@@ -29,7 +34,7 @@ def is_unknown(thing):
 
 def is_pair(thing):
     """Whether it has the form of a pair; what its head and its rest are isn't asked."""
-    return isinstance(thing, tuple) and len(thing) == 2 and thing[0] != "?"
+    return is_tuple_of(thing, 2) and thing[0] != "?"
 
 
 def is_leaf(thing):

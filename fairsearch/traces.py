@@ -2,7 +2,7 @@
 
 from fairsearch.goals import relations_by_name
 from fairsearch.nodes import Nodes
-from fairsearch.terms import is_ground, is_term, is_whole, is_word
+from fairsearch.terms import is_ground, is_term, is_tuple_of, is_whole, is_word
 
 
 def trace_holds(program, names, goal, values, thing):
@@ -16,10 +16,6 @@ def trace_holds(program, names, goal, values, thing):
             return False
         waiting.extend(inner)
     return True
-
-
-def is_tuple_of(thing, many):
-    return isinstance(thing, tuple) and len(thing) == many
 
 
 def is_place(thing, things):

@@ -4,7 +4,7 @@ import unittest
 
 from making import Maker
 from oracles import (
-    all_tables, equations, has_part, is_number, is_pair, is_unknown, is_word, replace, so_said, solved, unknown_set,
+    all_tables, equations, has_part, is_number, is_unknown, is_word, replace, so_said, solved, unknown_set,
 )
 from samples import LONG, grown, heads_within, listed, unknown
 
