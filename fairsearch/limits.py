@@ -44,7 +44,10 @@ def absents_behind(absents, filling, kinds):
 def may_hold(filling, kinds, absents):
     """Whether kinds and absents let the filling hold in some world."""
     behind = kinds_behind(kinds, filling)
-    return behind is not None and absents_behind(absents, filling, behind) is not None
+    # No atom becomes a part of an unknown of which the filling says nothing.
+    filled = dict(filling)
+    touched = [(number, atom) for number, atom in absents if number in filled]
+    return behind is not None and absents_behind(touched, filling, behind) is not None
 
 
 def row_behind(row, filling):
@@ -61,8 +64,9 @@ def sides_of(row):
 def follows(one, other):
     """Whether the other row holds wherever the one does, so that the one needn't be barred too."""
     table = dict(one)
+    # An unknown of which the table says nothing isn't the same as its term, which becomes none with a higher number.
     for number, term in other:
-        if table.get(number, ("?", number)) != with_terms(term, table):
+        if number not in table or table[number] != with_terms(term, table):
             return False
     return True
 

@@ -5,6 +5,7 @@ from fairsearch.limits import limit_lines, sides_of
 from fairsearch.stores import Store
 from fairsearch.terms import is_atom, is_term, is_tuple_of, is_whole, joined
 from fairsearch.termtexts import show_term
+from fairsearch.worlds import ground_terms
 
 
 def is_shown(thing):
@@ -28,7 +29,8 @@ def covers(shown, values):
 
 def covered(shown):
     """Some ground terms that the answer covers."""
-    return with_limits(Store(), shown).world(shown[0])
+    terms, rows, kinds, absents = shown
+    return ground_terms(terms, rows, kinds, absents)
 
 
 def with_limits(store, shown):

@@ -2,9 +2,9 @@
 
 from fairsearch.fillings import alike, put_in
 from fairsearch.limits import absents_behind, kind_of, kinds_behind, least_rows, limit_lines, row_behind
-from fairsearch.terms import is_unknown, leaves_of, unknowns_in, unknowns_of, with_terms
+from fairsearch.terms import is_unknown, leaves_of, unknowns_in
 from fairsearch.termtexts import show_filling
-from fairsearch.worlds import new_values
+from fairsearch.worlds import ground_terms
 
 
 class Store:
@@ -48,8 +48,7 @@ class Store:
     def world(self, terms):
         """What the terms are by some world."""
         filled = [put_in(term, self.filled) for term in terms]
-        values = new_values(unknowns_of(filled), self.barred, self.sorts, self.missing)
-        return tuple([with_terms(term, values) for term in filled])
+        return ground_terms(filled, self.barred, self.sorts, self.missing)
 
     def filling(self):
         return self.filled

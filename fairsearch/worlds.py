@@ -1,8 +1,14 @@
 """Ground terms for unknowns that nothing says more of than limits do."""
 
-from fairsearch.terms import is_atom, leaves_of
+from fairsearch.terms import is_atom, leaves_of, unknowns_of, with_terms
 
 LETTERS = "abcdefghijklmnopqrstuvwxyz"
+
+
+def ground_terms(terms, rows, kinds, absents):
+    """What the terms are where their unknowns are such values."""
+    values = new_values(unknowns_of(terms), rows, kinds, absents)
+    return tuple([with_terms(term, values) for term in terms])
 
 
 def new_values(numbers, rows, kinds, absents):

@@ -12,7 +12,7 @@ from fairsearch.endchecks import end_holds
 from fairsearch.ends import end_paper
 from fairsearch.errors import Missing, NotPlain, TooMany
 from fairsearch.findings import finding_holds
-from fairsearch.goaltexts import show_goal, show_relation
+from fairsearch.goaltexts import read_program, show_goal, show_relation
 from fairsearch.kept import kept_answers
 from fairsearch.limits import follows
 from fairsearch.searches import Search
@@ -163,6 +163,21 @@ class Answers(unittest.TestCase):
                     self.assertIs(covers(others, values), True)
                     self.assertIs(covers((terms, rows, kinds, absents), values), False)
         self.assertTrue(many > 50, many)
+
+    def test_answers_with_many_rows(self):
+        """Lists of unlike things, each with rows of its own: covered, traced and found along as others are."""
+        program = read_program(
+            "apart 1 x = either 2 same ?x () fresh 2 a d both 7 same ?x (?a . ?d) unlike ?a 1 unlike ?a ?d "
+            "unlike (?a . ?d) (3 4) unlike (?a ?d) (?d ?a) absent 7 ?d call apart 1 ?d")
+        names, goal = ("x",), ("call", "apart", (X,))
+        path, shown = Search(program, names, goal).take(40)[-1]
+        self.assertTrue(len(shown[1]) > 75, len(shown[1]))
+        values = covered(shown)
+        trace = trace_along(program, names, goal, path, values)
+        self.assertIs(covers(shown, values), True)
+        self.assertIs(finding_holds(("answer", program, names, goal, path, shown)), True)
+        self.assertIs(finding_holds(("trace", program, names, goal, values, trace)), True)
+        self.assertIs(finding_holds(("answer", program, names, goal, path, (shown[0], shown[1][1:], *shown[2:]))), False)
 
     def test_each_is_a_finding(self):
         for program, names, goal in self.questions():
